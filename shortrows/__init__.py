@@ -1,0 +1,1 @@
+"""Rows written shorter the oftener they are used."""

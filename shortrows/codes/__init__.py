@@ -1,0 +1,1 @@
+"""Codes of bits."""

@@ -1,0 +1,1 @@
+"""The small machine: its programs and its runs."""
