@@ -117,7 +117,7 @@ class TextsTest(unittest.TestCase):
     def test_numbers(self):
         for number in (0, 1, 9, 10, 99, 100, 9999, 10000, 65534, 65535):
             self.assert_row("put a " + str(number), ("put", "a", number))
-        for figures in ("65536", "65540", "70000", "99999", "100000", "9" * 3900, "1" + "0" * 3900):
+        for figures in ("65536", "65540", "70000", "99999", "100000", "9" * 3900, "1" + "0" * 3900, "1" * 5000):
             self.assert_no_row("put a " + figures, 0)
 
     def test_nought_ahead(self):

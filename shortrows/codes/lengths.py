@@ -37,13 +37,13 @@ def least_lengths(counts, bound):
     return tuple([chosen.count(thing) for thing in range(things)])
 
 
-# Each thing has a coin for each depth, worth its count, and two of a depth make a pack for the depth above. Of those
-# at depth 1 the cheapest 2 * things - 2 just fill the words; a thing is as long as coins of it are among them.
+# Each thing has a coin for each depth, worth its count and 1 over 2 ** depth wide; two of a depth make a pack, as wide
+# as a coin of the depth above. The cheapest 2 * things - 2 at depth 1 are the cheapest ones that are things - 1 wide.
+# With a length for each coin taken of a thing, this width leaves the sum of 1 over 2 ** length at most 1.
 def chosen_things(counts, bound):
     coins = [(count, [thing]) for thing, count in enumerate(counts)]
     shelf = by_worth(coins)
     for depth in range(1, bound):
-        # Coins stay ahead of packs of the same worth, so that none is taken at a depth and left at the one above.
         shelf = by_worth(coins + packs_of(shelf))
     chosen = []
     for item in shelf[:2 * len(counts) - 2]:
@@ -51,7 +51,6 @@ def chosen_things(counts, bound):
     return chosen
 
 
-# What is alike keeps its order.
 def by_worth(items):
     return sorted(items, key=lambda item: item[0])
 
