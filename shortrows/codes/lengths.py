@@ -37,9 +37,10 @@ def least_lengths(counts, bound):
     return tuple([chosen.count(thing) for thing in range(things)])
 
 
-# Each thing has a coin for each depth, worth its count and 1 over 2 ** depth wide; two of a depth make a pack, as wide
-# as a coin of the depth above. The cheapest 2 * things - 2 at depth 1 are the cheapest ones that are things - 1 wide.
-# With a length for each coin taken of a thing, this width leaves the sum of 1 over 2 ** length at most 1.
+# Each thing has a coin for each depth, worth its count: at depth 1 it is half wide, at each further one half as wide as
+# at the one above. Two of a depth make a pack, as wide as a coin of the depth above. So the cheapest 2 * things - 2 at
+# depth 1 are the cheapest ones that are things - 1 wide; and a thing has at most its width of 1 among them but for
+# that of a word as long as coins of it are taken. Hence words so long are at most 1 wide in all, and can be.
 def chosen_things(counts, bound):
     coins = [(count, [thing]) for thing, count in enumerate(counts)]
     shelf = by_worth(coins)
@@ -51,8 +52,8 @@ def chosen_things(counts, bound):
     return chosen
 
 
-def by_worth(items):
-    return sorted(items, key=lambda item: item[0])
+def by_worth(shelf):
+    return sorted(shelf, key=lambda item: item[0])
 
 
 def packs_of(shelf):
