@@ -1,6 +1,7 @@
 """Looks at the package's files by the rules of the language that they keep to, as far as a tree of syntax shows them.
 
-Here and there it is narrower than the rules: no annotations, no sets, no assignment to several names at once.
+Here and there it is narrower than the rules: no annotations, no sets, no assignment to several names at once, no
+keywords at calls of the package's own.
 """
 
 import ast
@@ -32,6 +33,8 @@ BANNED_FILES = {"test", "tests", "testing", "site", "conftest", "sitecustomize",
 DUNDERS = {"__init__", "__eq__", "__repr__", "__str__", "__len__"}
 WALKED = {"zip", "enumerate", "reversed", "range", "items", "keys", "values"}
 WALKERS = {"list", "tuple", "dict", "sorted", "sum", "any", "all", "enumerate", "zip", "min", "max", "join"}
+KEYWORDS = {"sorted": {"key", "reverse"}, "min": {"key", "default"}, "max": {"key", "default"}, "sum": {"start"},
+            "enumerate": {"start"}, "zip": {"strict"}}
 
 STATEMENTS = (ast.Assign, ast.AugAssign, ast.If, ast.While, ast.For, ast.Return, ast.Break, ast.Continue, ast.Pass,
               ast.Raise, ast.Try, ast.Expr, ast.FunctionDef, ast.ClassDef, ast.ImportFrom)
@@ -269,6 +272,8 @@ def faults_of_call(node, parents):
         handed = isinstance(above, ast.Call) and called_name(above) in WALKERS and node in above.args
         if not walked and not handed:
             yield "L23", node.lineno
+    if not {keyword.arg for keyword in node.keywords} <= KEYWORDS.get(name, set()):
+        yield "L22", node.lineno
 
 
 def own_methods(trees):

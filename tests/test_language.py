@@ -32,6 +32,7 @@ BROKEN = (
     ("L19", "def f(x):\n    try:\n        return int(x)\n    except Exception:\n        return 0\n"),
     ("L20", "def f(x):\n    return x is 'a'\n"),
     ("L21", "def f(x: int):\n    return x\n"),
+    ("L22", "def f(x):\n    return x.split(maxsplit=1)\n"),
     ("L23", "def f(x):\n    y = zip(x, x)\n    return y\n"),
     ("L27", "def f(x):\n    return 2 ** x\n"),
     ("L27", "A = '%'\n"),

@@ -36,15 +36,19 @@ def comes(program, counts):
     return sums
 
 
+class BitsEnd(AssertionError):
+    pass
+
+
 class Reader:
-    def __init__(self, bits, book):
-        self.bits, self.place = bits, 0
+    def __init__(self, bits, book, place=0):
+        self.bits, self.place = bits, place
         self.codes = [{word: thing for thing, word in enumerate(code_of(lengths))} for lengths in book]
 
     def figures(self, many):
         self.place += many
         if self.place > len(self.bits):
-            raise AssertionError("the bits end within a row")
+            raise BitsEnd("the bits end within a row")
         return self.bits[self.place - many:self.place]
 
     def thing(self, which):
@@ -63,24 +67,30 @@ class Reader:
         return width, told - 2 ** BITS[width] if told >= 2 ** (BITS[width] - 1) else told
 
 
+# The row that stands next, with the place of the bit that it goes to, and its width.
+def row_read(reader):
+    row, width = [WORDS[reader.thing(0)]], None
+    for kind in PARTS[row[0]]:
+        if kind == "b":
+            row.append(BOXES[reader.thing(2)])
+        elif kind == "n":
+            row.append(reader.number())
+        else:
+            width, distance = reader.jump()
+            row.append(reader.place + distance)
+    return tuple(row), width
+
+
 # The rows, the places and the widths that stand in the bits.
 def read_back(bits, book):
     reader, rows, begins, widths = Reader(bits, book), [], [], []
     while reader.place < len(bits):
         begins.append(reader.place)
-        row, width = [WORDS[reader.thing(0)]], None
-        for kind in PARTS[row[0]]:
-            if kind == "b":
-                row.append(BOXES[reader.thing(2)])
-            elif kind == "n":
-                row.append(reader.number())
-            else:
-                width, distance = reader.jump()
-                row.append(reader.place + distance)
+        row, width = row_read(reader)
         rows.append(row)
         widths.append(width)
     places = begins + [len(bits)]
-    program = [tuple(row[:-1] + [places.index(row[-1])]) if "g" in PARTS[row[0]] else tuple(row) for row in rows]
+    program = [row[:-1] + (places.index(row[-1]),) if "g" in PARTS[row[0]] else row for row in rows]
     return tuple(program), tuple(begins), tuple(widths)
 
 

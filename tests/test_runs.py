@@ -181,6 +181,26 @@ def some_row(chance, size):
         ("halt",)))
 
 
+# Answers what is next: "halt", a goal, or None for the row behind.
+def carried_out_another_way(row, boxes, told, heard):
+    word = row[0]
+    where = [BOXES.find(part) if isinstance(part, str) else part for part in row[1:]]
+    if word == "halt":
+        return "halt"
+    if word == "jump":
+        return where[0]
+    if word == "zero":
+        return None if boxes[where[0]] else where[1]
+    if word == "tell":
+        told.append(boxes[where[0]])
+    elif word == "hear":
+        boxes[where[0]] = heard.pop(0) & 65535 if heard else 0
+    else:
+        old, new = boxes[where[0]], where[1] if word == "put" else boxes[where[1]]
+        boxes[where[0]] = {"put": new, "copy": new, "add": old + new, "sub": old - new}[word] & 65535
+    return None
+
+
 def run_another_way(program, given, most):
     trace, told, boxes, heard, at = [], [], [0] * 8, list(given), 0
     while at != len(program):
@@ -188,22 +208,8 @@ def run_another_way(program, given, most):
             how = "more"
             break
         trace.append(at)
-        word, parts = program[at][0], program[at][1:]
-        where = [BOXES.find(part) if isinstance(part, str) else part for part in parts]
-        at += 1
-        if word == "halt":
-            at = len(program)
-        elif word == "jump":
-            at = where[0]
-        elif word == "zero":
-            at = at if boxes[where[0]] else where[1]
-        elif word == "tell":
-            told.append(boxes[where[0]])
-        elif word == "hear":
-            boxes[where[0]] = heard.pop(0) & 65535 if heard else 0
-        else:
-            old, new = boxes[where[0]], where[1] if word == "put" else boxes[where[1]]
-            boxes[where[0]] = {"put": new, "copy": new, "add": old + new, "sub": old - new}[word] & 65535
+        follows = carried_out_another_way(program[at], boxes, told, heard)
+        at = {"halt": len(program), None: at + 1}.get(follows, follows)
     else:
         how = "halt"
     return (how, tuple(told), tuple([trace.count(row) for row in range(len(program))]), tuple(boxes))

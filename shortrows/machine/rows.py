@@ -18,3 +18,12 @@ SHAPES = {
     "zero": ("box", "goal"),
     "halt": (),
 }
+
+
+def goal_of(row):
+    return row[-1] if "goal" in SHAPES[row[0]] else None
+
+
+# The goal is the last part of each row that has one.
+def with_goal(row, goal):
+    return row[:-1] + (goal,)

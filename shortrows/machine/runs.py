@@ -1,6 +1,6 @@
 """Programs run row by row."""
 
-from shortrows.machine.rows import BOXES, WHOLE
+from shortrows.machine.rows import BOXES, WHOLE, goal_of
 
 
 class Machine:
@@ -10,7 +10,14 @@ class Machine:
         self.told = []
         self.boxes = dict([(box, 0) for box in BOXES])
 
-    # Answers whether the row's goal is next; where a goal lies is the caller's affair, and so is the end at halt.
+    # Rows may be told by their numbers or by places of bits: behind is the one behind this row, end that behind all.
+    def place_next(self, row, behind, end):
+        goes = self.carry_out(row)
+        if row[0] == "halt":
+            return end
+        return goal_of(row) if goes else behind
+
+    # Answers whether the row's goal is next.
     def carry_out(self, row):
         word = row[0]
         if word == "jump":
@@ -56,17 +63,8 @@ def run_rows(program, given, most):
     at = 0
     done = 0
     while at < len(program) and done < most:
-        goes = machine.carry_out(program[at])
         turns[at] = turns[at] + 1
         done = done + 1
-        at = place_behind(program, at, goes)
+        at = machine.place_next(program[at], at + 1, len(program))
     how = "more" if at < len(program) else "halt"
     return (how, machine.told_numbers(), tuple(turns), machine.box_numbers())
-
-
-def place_behind(program, at, goes):
-    row = program[at]
-    if row[0] == "halt":
-        return len(program)
-    # The goal is the last part of each row that has one.
-    return row[-1] if goes else at + 1

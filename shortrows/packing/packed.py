@@ -2,7 +2,7 @@
 
 from shortrows.codes.codes import code_of
 from shortrows.codes.lengths import least_lengths
-from shortrows.machine.rows import BOXES, SHAPES
+from shortrows.machine.rows import BOXES, SHAPES, goal_of
 from shortrows.packing.widths import HEADS, WIDTHS, distance_of, least_widths, row_starts
 
 # Where a book has the lengths of words, classes and boxes, and for how many of each.
@@ -33,8 +33,12 @@ def coded_things(row):
     return things
 
 
+def codes_of(book):
+    return [code_of(lengths) for lengths in book]
+
+
 def pack_rows(program, book):
-    codes = [code_of(lengths) for lengths in book]
+    codes = codes_of(book)
     firsts = [bits_ahead_of_goal(row, codes) for row in program]
     sizes = [len(first) for first in firsts]
     goals = [goal_of(row) for row in program]
@@ -52,10 +56,6 @@ def pack_rows(program, book):
 def bits_ahead_of_goal(row, codes):
     bits = "".join([codes[which][thing] for which, thing in coded_things(row)])
     return bits + figures_behind_first(row[-1]) if row[0] == "put" else bits
-
-
-def goal_of(row):
-    return row[-1] if "goal" in SHAPES[row[0]] else None
 
 
 def figures_behind_first(number):
